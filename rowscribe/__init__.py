@@ -1,0 +1,1 @@
+"""Rowscribe: rows written to words of a machine, and told back."""
