@@ -4,6 +4,7 @@ from rowscribe.errors import BadBegins, BadCount, BadWords
 
 WORDS_MOST = 256
 WORD_MOST = 255
+BEGINS_MOST = 16
 ROWS_DONE_MOST = 1000
 
 
@@ -24,6 +25,13 @@ def check_begin(begin):
     """Refuses what is no place to begin at."""
     if not is_whole(begin, WORD_MOST):
         raise BadBegins(0)
+
+
+def check_begins(begins):
+    """Refuses what is no list of places to begin at."""
+    for number, begin in enumerate(begins):
+        if number >= BEGINS_MOST or not is_whole(begin, WORD_MOST):
+            raise BadBegins(number)
 
 
 def check_most(most):

@@ -4,6 +4,7 @@ from rowscribe.ops import OPS
 
 # Beside the ops, these have a meaning of their own in a row.
 KEPT = ("take", "at", "word", "room", "is", "macro", "end", "here")
+LETTERS = "abcdefghijklmnopqrstuvwxyz"
 NAME_MOST = 8
 FIGURES_MOST = 4
 
@@ -31,3 +32,25 @@ def is_figures(word):
         return False
     # isdigit would let figures of other scripts by.
     return all("0" <= figure <= "9" for figure in word)
+
+
+def letters_of(number):
+    """a to z for 0 to 25, then aa, ab and so on."""
+    word = ""
+    rest = number
+    while rest >= 0:
+        word = LETTERS[rest % 26] + word
+        rest = rest // 26 - 1
+    return word
+
+
+def fresh_names(many, taken):
+    """So many names, none of those taken."""
+    names = []
+    number = 0
+    while len(names) < many:
+        word = letters_of(number)
+        if is_name(word) and word not in taken:
+            names.append(word)
+        number += 1
+    return names
