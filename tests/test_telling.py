@@ -353,23 +353,21 @@ class Drawn(unittest.TestCase):
 
 
 class Refused(unittest.TestCase):
-    def words_refused(self, words, begins):
+    def number_refused(self, kind, words, begins):
+        """The number by which all of them refuse what is handed in."""
         numbers = set()
         for teller in TELLERS:
-            with self.subTest(teller=teller.__name__), self.assertRaises(BadWords) as caught:
+            with self.subTest(teller=teller.__name__), self.assertRaises(kind) as caught:
                 teller(words, begins)
             numbers.add(caught.exception.number)
         self.assertEqual(len(numbers), 1)
         return numbers.pop()
 
+    def words_refused(self, words, begins):
+        return self.number_refused(BadWords, words, begins)
+
     def begins_refused(self, words, begins):
-        numbers = set()
-        for teller in TELLERS:
-            with self.subTest(teller=teller.__name__), self.assertRaises(BadBegins) as caught:
-                teller(words, begins)
-            numbers.add(caught.exception.number)
-        self.assertEqual(len(numbers), 1)
-        return numbers.pop()
+        return self.number_refused(BadBegins, words, begins)
 
     def test_words(self):
         self.assertEqual(self.words_refused([256], []), 0)
