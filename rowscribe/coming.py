@@ -15,8 +15,8 @@ class Walk:
         self.rows = {}
         # The place of the row in which each word of such a row lies.
         self.homes = {}
-        # (from, place)
-        self.apart = []
+        # (from, place), each once: the same pair may wait more than once.
+        self.apart = {}
 
 
 def goal_of(place, row):
@@ -44,7 +44,7 @@ def come(walk, words, place, origin):
     # Where no row lies, the word itself may still lie within another row.
     places = list(range(place, place + (1 if row is None else row_size(row[0]))))
     if any(spot in walk.homes for spot in places):
-        walk.apart.append((origin, place))
+        walk.apart[origin, place] = True
         return []
     if row is None:
         return []

@@ -24,7 +24,7 @@ def come_to(words, begins):
 
 
 def middles(words, begins):
-    """(from, place) of all that is apart, as often as it waited."""
+    """(from, place) of all that is apart, each once."""
     return sorted(checked_walk(words, begins).apart)
 
 

@@ -15,7 +15,7 @@ TELLERS = (come_to, middles, told)
 def slow(words, begins):
     """(come_to, middles), step by step by the words of the document."""
     waiting = [(place, -1) for place in begins]
-    starts, apart = [], []
+    starts, apart = [], set()
     while waiting:
         waiting.sort()
         (place, origin), waiting = waiting[0], waiting[1:]
@@ -25,7 +25,7 @@ def slow(words, begins):
         taken = {start + k for start in starts for k in range(row_lies(words, start)[1])}
         mine = {place + k for k in range(row[1])} if row else {place}
         if mine & taken:
-            apart.append((origin, place))
+            apart.add((origin, place))
         elif row:
             starts.append(place)
             if goal_at(words, place) is not None:
@@ -139,7 +139,17 @@ class Middles(Ways):
         self.comes([16, 200, 0], [0, 1], [(0, "take!"), (2, "stop")], [(-1, 1)])
 
     def test_begins_alike_in_the_middle(self):
-        self.comes([16, 0, 0], [1, 0, 1], [(0, "take!"), (2, "stop")], [(-1, 1), (-1, 1)])
+        self.comes([16, 0, 0], [0, 1, 1], [(0, "take!"), (2, "stop")], [(-1, 1)])
+        self.comes([16, 0, 0], [1, 0, 1], [(0, "take!"), (2, "stop")], [(-1, 1)])
+        self.comes([16, 0, 0], [0] + [1] * 15, [(0, "take!"), (2, "stop")], [(-1, 1)])
+        # where no row lies, and two places by turns
+        self.comes([16, 200, 0], [1, 0, 1], [(0, "take!"), (2, "stop")], [(-1, 1)])
+        self.comes([128, 0, 0, 0], [2, 1, 0, 2, 1], [(0, "copy"), (3, "stop")], [(-1, 1), (-1, 2)])
+
+    def test_begins_alike_in_the_middle_and_rows_that_lead_there(self):
+        self.comes([16, 0, 96, 1], [0, 1, 1], [(0, "take!"), (2, "jump")], [(-1, 1), (2, 1)])
+        self.comes([16, 0, 97, 1, 96, 1], [1, 0, 1], [(0, "take!"), (2, "call"), (4, "jump")],
+                   [(-1, 1), (2, 1), (4, 1)])
 
     def test_a_row_that_leads_into_the_middle(self):
         self.comes([16, 4, 96, 1], [0], [(0, "take!"), (2, "jump")], [(2, 1)])
@@ -191,7 +201,15 @@ class Middles(Ways):
     def test_a_goal_that_is_the_place_behind(self):
         # both lead from 3 to 5, where take! runs into the say at 6
         self.comes([96, 6, 0, 100, 5, 16, 4, 96, 3], [0],
-                   [(0, "jump"), (3, "zero"), (6, "say"), (7, "jump")], [(3, 5), (3, 5)])
+                   [(0, "jump"), (3, "zero"), (6, "say"), (7, "jump")], [(3, 5)])
+        # so of each row that has both
+        for first, op in ((97, "call"), (100, "zero"), (112, "same")):
+            self.comes([first, 2, 16, 96, 0], [3], [(0, op), (3, "jump")], [(0, 2)])
+
+    def test_a_goal_that_is_the_place_behind_and_begins_alike(self):
+        # the begin at 2 waits no more ahead of the one at 3, whose word its row takes
+        self.comes([100, 2, 16, 96, 0], [3, 2, 2], [(2, "take!"), (4, "stop")], [(-1, 3)])
+        self.comes([100, 2, 16, 96, 0], [3, 3], [(0, "zero"), (3, "jump")], [(0, 2)])
 
     def test_what_is_come_to_or_no_word_is_not_apart(self):
         self.comes([4, 96, 0], [0, 0, 200], [(0, "say"), (1, "jump")])
@@ -347,6 +365,8 @@ class Drawn(unittest.TestCase):
             rows, between = slow(words, begins)
             self.assertEqual(come_to(words, begins), rows)
             self.assertEqual(middles(words, begins), between)
+            self.assertTrue(all(one < other for one, other in zip(between, between[1:])), between)
+            self.assertEqual(middles(words, begins * 2 if len(begins) < 9 else begins), between)
             apart += len(between) > 0
         # the draw is of use only if some lead into the middle and some don't
         self.assertTrue(60 < apart < 540, apart)
